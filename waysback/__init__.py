@@ -1,0 +1,1 @@
+"""Waysback: ways of steps forth and back between words."""
