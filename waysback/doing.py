@@ -45,3 +45,8 @@ def gone_back(step):
     if turn == "on":
         return place, rule, "back"
     return place, rule, "on"
+
+
+def all_back(steps):
+    """The list of the steps that undo all of steps, the last one first."""
+    return [gone_back(step) for step in reversed(steps)]

@@ -13,10 +13,8 @@ def need_two(way, index):
         raise BadIndex(index)
 
 
-def two_exchanged(way, index):
-    """The steps index and index + 1 in the other order, None if they are not apart."""
-    rules = way.book().rules()
-    first, second = way.steps()[index:index + 2]
+def two_exchanged(rules, first, second):
+    """Two steps, one done behind the other, in the other order, None if they are not apart."""
     first_source, first_goal = sides(rules, first)
     second_source, second_goal = sides(rules, second)
     if second[0] + len(second_source) <= first[0]:
@@ -31,14 +29,15 @@ def two_exchanged(way, index):
 def is_apart(way, index):
     """Whether the second of the steps index and index + 1 takes no wire that the first gives."""
     need_two(way, index)
-    return two_exchanged(way, index) is not None
+    first, second = way.steps()[index:index + 2]
+    return two_exchanged(way.book().rules(), first, second) is not None
 
 
 def exchanged(way, index):
     """The way that does step index + 1 ahead of step index."""
     need_two(way, index)
-    two = two_exchanged(way, index)
+    steps = way.steps()
+    two = two_exchanged(way.book().rules(), steps[index], steps[index + 1])
     if two is None:
         raise NotApart(index)
-    steps = way.steps()
     return Way(way.book(), way.word(), steps[:index] + two + steps[index + 2:])

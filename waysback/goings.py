@@ -1,7 +1,7 @@
 """What is done with steps and ways: done, turned back, put together, cut."""
 
 from waysback.books import need_book
-from waysback.doing import can_do, gone_back, steps_on, word_behind
+from waysback.doing import all_back, can_do, steps_on, word_behind
 from waysback.errors import BadOther, BadStep
 from waysback.ways import Way, need_index, need_other_at, need_way
 from waysback.words import need_word
@@ -27,8 +27,7 @@ def done(book, word, step):
 def turned_back(way):
     """The way from way's end to its word."""
     need_way(way)
-    steps = [gone_back(step) for step in reversed(way.steps())]
-    return Way(way.book(), way.end(), steps)
+    return Way(way.book(), way.end(), all_back(way.steps()))
 
 
 def put_behind(way, other):

@@ -1,7 +1,8 @@
 """Steps done at once: the times at which each can be done, and what each time does."""
 
 from waysback.boxes import way_boxes
-from waysback.hangings import hung_lots, steps_in
+from waysback.hangings import hung_lots
+from waysback.orders import steps_in
 
 
 def earliest(way):

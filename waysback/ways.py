@@ -2,7 +2,7 @@
 
 from waysback.books import need_book
 from waysback.doing import can_do, word_behind
-from waysback.errors import BadIndex, BadOther, BadSteps, BadWay
+from waysback.errors import BadIndex, BadOther, BadSteps, BadWay, NotRound
 from waysback.words import is_number, is_row, need_word
 
 
@@ -59,6 +59,13 @@ def need_way(thing):
     """Raises BadWay for an object that is no Way."""
     if not isinstance(thing, Way):
         raise BadWay(thing)
+
+
+def need_round(thing):
+    """Raises BadWay for an object that is no Way, NotRound for one that leads to another word."""
+    need_way(thing)
+    if thing.end() != thing.word():
+        raise NotRound(thing.end())
 
 
 def need_other_at(way, thing, word):

@@ -6,9 +6,8 @@ from waysback.ways import need_index, need_way
 from waysback.words import is_number
 
 
-def wires(way):
-    """The list, step by step, of the pairs (taken, given) of lists of wires."""
-    need_way(way)
+def wires_and_end(way):
+    """The pair of what wires tells of way, and the list of the wires of the letters of its end."""
     rules = way.book().rules()
     row = list(range(len(way.word())))
     fresh = len(row)
@@ -21,7 +20,13 @@ def wires(way):
         fresh += len(goal)
         row[place:place + len(source)] = given
         told.append((taken, given))
-    return told
+    return told, row
+
+
+def wires(way):
+    """The list, step by step, of the pairs (taken, given) of lists of wires."""
+    need_way(way)
+    return wires_and_end(way)[0]
 
 
 def wire_rows(way):

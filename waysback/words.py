@@ -15,9 +15,14 @@ def is_word(thing):
     return thing == "" or (thing.isascii() and thing.isalpha() and thing.islower())
 
 
+def is_integer(thing):
+    """Whether thing is an integer; True and False are none."""
+    return isinstance(thing, int) and not isinstance(thing, bool)
+
+
 def is_number(thing):
-    """Whether thing is an integer from 0 on; True and False are none."""
-    return isinstance(thing, int) and not isinstance(thing, bool) and thing >= 0
+    """Whether thing is an integer from 0 on."""
+    return is_integer(thing) and thing >= 0
 
 
 def is_row(thing):

@@ -1,0 +1,65 @@
+"""Steps from a word on, as moves change them one after another."""
+
+from waysback.doing import can_do, gone_back, word_behind
+from waysback.exchanges import two_exchanged
+from waysback.words import is_number, is_row
+
+
+class Trail:
+    """The steps of a way, and the words along it, which moves change."""
+
+    def __init__(self, way):
+        self._rules = way.book().rules()
+        self._row = way.steps()
+        self._along = way.words()
+
+    def row(self):
+        """The list of the steps as they are now."""
+        return list(self._row)
+
+    def do(self, thing):
+        """Does a move; whether any object is one that can be done now."""
+        if not is_row(thing) or len(thing) not in (2, 3) or not is_number(thing[1]):
+            return False
+        kind, index = thing[:2]
+        if len(thing) == 3:
+            return kind == "put" and self._put(index, thing[2])
+        if index + 1 >= len(self._row):
+            return False
+        if kind == "exchange":
+            return self._exchange(index)
+        return kind == "strike" and self._strike(index)
+
+    def _exchange(self, index):
+        """Exchanges the steps index and index + 1; whether they are apart."""
+        two = two_exchanged(self._rules, self._row[index], self._row[index + 1])
+        if two is None:
+            return False
+        self._row[index:index + 2] = two
+        self._along[index + 1] = word_behind(self._rules, self._along[index], two[0])
+        return True
+
+    def _strike(self, index):
+        """Strikes the steps index and index + 1; whether the second is the first gone back."""
+        if self._row[index + 1] != gone_back(self._row[index]):
+            return False
+        del self._row[index:index + 2]
+        del self._along[index + 1:index + 3]
+        return True
+
+    def _put(self, index, step):
+        """Puts step, and step gone back, in ahead of step index; whether it can be done there."""
+        if index > len(self._row) or not can_do(self._rules, self._along[index], step):
+            return False
+        word = self._along[index]
+        self._row[index:index] = [tuple(step), gone_back(step)]
+        self._along[index + 1:index + 1] = [word_behind(self._rules, word, step), word]
+        return True
+
+
+def first_unmoved(trail, moves):
+    """Does moves as long as they can be done; the index of the first that can't, None if all can."""
+    for index, move in enumerate(moves):
+        if not trail.do(move):
+            return index
+    return None
