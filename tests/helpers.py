@@ -16,6 +16,10 @@ NO_RULES = Book([])
 MIXED = Book([("ab", "ba"), ("a", "aa"), ("b", "ab"), ("ba", "c"), ("c", "c"), ("abc", "b")])
 BOOKS = [HALVES, DOUBLES, TWINS, RING, NO_RULES, MIXED]
 
+SWAPS = Book([("ab", "ba"), ("a", "aa"), ("xx", "x")])
+TURNING = Book([("xy", "yx"), ("xx", "yy"), ("x", "x")])
+ROUND_BOOKS = [HALVES, DOUBLES, TWINS, RING, SWAPS, TURNING, MIXED]
+
 # Twenty rules with sides of up to ten letters, as great as the limits let a book be.
 GREAT = Book([("x", "y" * (1 + k % 10)) for k in range(18)] + [("xy" * 5, "z" * 10), ("z", "x" * 10)])
 
@@ -137,3 +141,65 @@ def fault_by_beginnings(text, begun, whole):
         if text[:end] not in begun:
             return end - 1
     return len(text)
+
+
+def way_back(book, word, wanted, longest):
+    """The steps of a way from word to wanted over words of at most so many letters, as short as can be."""
+    known = {word: []}
+    line = [word]
+    for at in line:
+        if at == wanted:
+            return known[at]
+        for step in steps_at(book, at):
+            behind = word_after(book, at, step)
+            if behind not in known and len(behind) <= longest:
+                known[behind] = known[at] + [step]
+                line.append(behind)
+    raise AssertionError("there is no such way")
+
+
+def random_round(rng, book, word, many, longest=6):
+    """A round of book at word: so many steps, and a way back."""
+    way = random_way(rng, book, word, many, longest)
+    return Way(book, word, way.steps() + way_back(book, way.end(), word, longest))
+
+
+def sample_rounds(seed=1, each=12, most=9):
+    """Rounds of several books, many of them neither alike to no steps nor straight."""
+    rng = random.Random(seed)
+    rounds = []
+    for book in ROUND_BOOKS:
+        letters = sorted({letter for rule in book.rules() for side in rule for letter in side})
+        for number in range(each):
+            word = "".join(rng.choice(letters) for _ in range(rng.randrange(1, 5)))
+            made = random_round(rng, book, word, number % (most + 1))
+            if number % 3 == 2:
+                aside = random_way(rng, book, word, rng.randrange(5), 9)
+                made = Way(book, aside.end(), way_told_back(aside) + made.steps() + aside.steps())
+            rounds.append(made)
+    return rounds
+
+
+def way_told_back(way):
+    """The steps that lead back along way, told anew here."""
+    return [(place, rule, "on" if turn == "back" else "back") for place, rule, turn in way.steps()[::-1]]
+
+
+def ways_from(book, word, many):
+    """All ways of book from word of at most so many steps."""
+    ways = [Way(book, word, [])]
+    told = list(ways)
+    for _ in range(many):
+        ways = [Way(book, word, way.steps() + [step]) for way in ways for step in steps_at(book, way.end())]
+        told += ways
+    return told
+
+
+def drawn_ways(rng, book, word, count, most, longest=8):
+    """So many ways of book from word, of at most most steps, some beginning alike."""
+    told = [random_way(rng, book, word, rng.randrange(most + 1), longest) for _ in range(count)]
+    for at in range(1, count, 2):
+        begun = told[at - 1].steps()[:rng.randrange(most + 1)]
+        further = random_way(rng, book, Way(book, word, begun).end(), rng.randrange(4), longest)
+        told[at] = Way(book, word, begun + further.steps())
+    return told

@@ -34,6 +34,25 @@ INTERFACE = {
         "reordered": "way order",
     },
     "oncetimes": {"earliest": "way", "latest": "way", "at_once": "way"},
+    "pieces": {"pieces_beside": "way", "pieces_below": "way"},
+    "idles": {"idle_pairs": "way", "struck": "way pair", "bare": "way", "is_bare": "way"},
+    "likeness": {"alike": "way other", "distance": "way other", "fewest": "way"},
+    "moves": {"moved": "way move", "moves": "way other", "moves_wrong": "way other thing"},
+    "unlikes": {"unlike_paper": "way other", "unlike_wrong": "way other thing"},
+    "beginnings": {
+        "is_beginning": "way other", "common": "way other", "beginnings_count": "way", "beginning_at": "way number",
+    },
+    "events": {"events": "way", "at_odds": "way other", "way_of_events": "book word given"},
+    "joins": {"joined": "way other"},
+    "middles": {"middle": "way other third", "is_between": "way other third", "between_count": "way other"},
+    "merges": {"merged": "base lines", "struck_out": "way index"},
+    "walls": {"has_wall": "way other", "walls_between": "way other", "wall_from": "way other"},
+    "rounds": {
+        "is_round": "thing", "no_steps": "book word", "carried": "way other", "power": "way number",
+        "power_steps": "way number",
+    },
+    "sayings": {"value": "rounds saying", "holds": "rounds saying second", "words_for": "rounds other most"},
+    "straights": {"strip_pairs": "way", "is_straight": "way", "straight": "way", "fewest_carried": "way"},
 }
 CLASSES = {
     ("books", "Book"): ("rules", {"rules": "", "__eq__": "other"}),
@@ -43,15 +62,28 @@ CLASSES = {
     ),
 }
 WAY = Way(DOUBLES, "xx", [(0, 0, "on"), (2, 0, "on"), (0, 0, "back")])
+OTHER = Way(DOUBLES, "xx", [(1, 0, "on"), (0, 0, "on"), (1, 0, "on"), (1, 0, "back")])
+EVENT = Way(DOUBLES, "xx", [(0, 0, "on"), (0, 0, "on")])
+ROUND = Way(DOUBLES, "x", [(0, 0, "on"), (0, 0, "on"), (1, 0, "back"), (0, 0, "back")])
 RIGHT = {
-    "thing": (0, 0, "on"), "book": DOUBLES, "word": "xx", "step": (0, 0, "on"), "way": WAY,
-    "index": 0, "place": 1, "number": 1, "order": [0, 2, 1], "boxes": [(0, "on", [0], [2, 3])],
+    "thing": (0, 0, "on"), "book": DOUBLES, "word": "xx", "step": (0, 0, "on"), "way": WAY, "other": OTHER,
+    "index": 0, "place": 1, "number": 1, "order": [0, 2, 1], "boxes": [(0, "on", [0], [2, 3])], "pair": (0, 1),
+    "move": ("put", 1, (0, 0, "on")), "third": EVENT, "given": [EVENT, Way(DOUBLES, "xx", [(0, 0, "on")])],
+    "base": WAY, "lines": [WAY, OTHER], "rounds": [ROUND, Way(DOUBLES, "x", [])], "most": 2,
+    "saying": ("behind", ("back", 0), ("times", 1, 3)), "second": ("around", 0, ("none",)),
 }
 # What stands for a parameter other than RIGHT tells, by function.
 SPECIAL = {
     ("put_behind", "other"): Way(DOUBLES, "xxx", [(1, 0, "back")]),
     ("put_beside", "other"): Way(DOUBLES, "x", [(0, 0, "on")]),
-    ("same_picture", "other"): Way(DOUBLES, "xx", []),
+    ("struck", "way"): Way(DOUBLES, "xx", [(1, 0, "on"), (1, 0, "back"), (0, 0, "on")]),
+    ("moves_wrong", "thing"): [("exchange", 0), ("put", 3, (0, 0, "back"))],
+    ("unlike_wrong", "thing"): ([("exchange", 0)], [("strike", 2)]),
+    ("has_wall", "way"): EVENT, ("wall_from", "way"): EVENT,
+    ("power", "way"): ROUND, ("power_steps", "way"): ROUND,
+    ("carried", "way"): ROUND, ("carried", "other"): Way(DOUBLES, "x", [(0, 0, "on")]),
+    ("words_for", "other"): ROUND,
+    **{(name, "way"): ROUND for name in ("strip_pairs", "is_straight", "straight", "fewest_carried")},
     ("read_book", "text"): "rule a to b\n", ("book_fault", "text"): "rule", ("book_goes_on", "text"): "rule",
     ("read_way", "text"): "word x\n0 0 on\n", ("way_fault", "text"): "word x\n1", ("way_goes_on", "text"): "word x\n0",
     ("read_rows", "text"): "[x] 0 on\nxx\n", ("rows_fault", "text"): "[x", ("rows_go_on", "text"): "[x",
@@ -122,7 +154,7 @@ class InterfaceTest(unittest.TestCase):
             for many in range(len(named)):
                 mixed = {one: given[one] if at < many else None for at, one in enumerate(named)}
                 alone = {one: None if at == many else given[one] for at, one in enumerate(named)}
-                if named[many] == "text" and name.endswith(("fault", "on")):
+                if named[many] == "thing" or named[many] == "text" and name.endswith(("fault", "on")):
                     continue
                 self.assertIs(type(raised(call, **mixed)), type(raised(call, **alone)), name)
                 self.assertIsNotNone(raised(call, **alone), name)
@@ -137,8 +169,8 @@ class InterfaceTest(unittest.TestCase):
         for way in sample_ways():
             text = repr((way.book().rules(), way.word(), way.steps(), way.words()))
             for name, call, given in all_calls():
-                if "way" in given and "other" not in given and not set(given) & {"index", "number", "order"}:
-                    call(way)
+                if list(given) == ["way"]:
+                    raised(call, way)
             self.assertEqual(repr((way.book().rules(), way.word(), way.steps(), way.words())), text)
 
     def test_callers_may_keep_no_hold_on_a_books_rules(self):

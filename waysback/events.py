@@ -3,7 +3,7 @@
 from waysback.books import need_book
 from waysback.errors import BadEvents
 from waysback.stocks import Stock, stock_from, two_lots
-from waysback.ways import Way, need_way
+from waysback.ways import is_way_from, need_way
 from waysback.words import is_row, need_word
 
 
@@ -61,7 +61,7 @@ def need_events(stock, book, word, given):
     lots = []
     lasts = []
     for index, thing in enumerate(given):
-        if not isinstance(thing, Way) or thing.book() != book or thing.word() != word:
+        if not is_way_from(thing, book, word):
             raise BadEvents(index)
         lots.append(stock.lot_of(thing.steps()))
         lasts.append(last_of(stock, lots[index]))

@@ -5,7 +5,7 @@ from waysback.errors import BadIndex, BadLines
 from waysback.events import lots_at_odds
 from waysback.joins import union
 from waysback.stocks import Stock, bare_way, stock_from
-from waysback.ways import Way, need_way
+from waysback.ways import is_way_from, need_way
 from waysback.words import is_number, is_row
 
 
@@ -14,7 +14,7 @@ def need_lines(base, lines):
     if not is_row(lines):
         raise BadLines(0)
     for index, line in enumerate(lines):
-        if not isinstance(line, Way) or line.word() != base.word() or line.book() != base.book():
+        if not is_way_from(line, base.book(), base.word()):
             raise BadLines(index)
 
 

@@ -4,13 +4,13 @@ from waysback.beginnings import beginnings_count
 from waysback.errors import BadThird
 from waysback.goings import put_behind, turned_back
 from waysback.stocks import two_lots
-from waysback.ways import Way, need_other, need_way
+from waysback.ways import is_way_from, need_other, need_way
 
 
 def three_lots(way, other, third):
     """A stock, and the lots of three ways in it; raises what is due if they are none."""
     stock, mine, theirs = two_lots(way, other)
-    if not isinstance(third, Way) or third.word() != way.word() or third.book() != way.book():
+    if not is_way_from(third, way.book(), way.word()):
         raise BadThird(third)
     return stock, mine, theirs, stock.lot_of(third.steps())
 

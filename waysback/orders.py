@@ -12,7 +12,8 @@ def steps_in(lot, many):
 
 def size_of(lot):
     """How many steps are in lot."""
-    return f"{lot:b}".count("1")
+    bits = f"{lot:b}"
+    return bits.count("1")
 
 
 def near_lots(lots):

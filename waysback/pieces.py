@@ -64,6 +64,7 @@ def cuts_of(way):
 
 def pieces_below(way):
     """The list of the ways into which way is cut, one below another."""
+    need_way(way)
     cuts = cuts_of(way)
     steps = way.steps()
     words = way.words()

@@ -4,7 +4,7 @@ from waysback.doing import all_back
 from waysback.errors import BadMost, BadRounds, BadSaying
 from waysback.rounds import is_round, power
 from waysback.stocks import bare_way, stock_from
-from waysback.ways import need_other
+from waysback.ways import is_way_from, need_other
 from waysback.words import TURNS, is_integer, is_number, is_row
 
 # Of how many sayings each kind of saying is put together, where it is of sayings alone.
@@ -16,9 +16,7 @@ def need_rounds(rounds):
     if not is_row(rounds) or len(rounds) == 0:
         raise BadRounds(0)
     for index, thing in enumerate(rounds):
-        if not is_round(thing):
-            raise BadRounds(index)
-        if thing.word() != rounds[0].word() or thing.book() != rounds[0].book():
+        if not is_round(thing) or not is_way_from(thing, rounds[0].book(), rounds[0].word()):
             raise BadRounds(index)
 
 

@@ -68,9 +68,14 @@ def need_round(thing):
         raise NotRound(thing.end())
 
 
+def is_way_from(thing, book, word):
+    """Whether any object is a Way of a book equal to book, from word."""
+    return isinstance(thing, Way) and thing.word() == word and thing.book() == book
+
+
 def need_other_at(way, thing, word):
     """Raises BadOther for an object that is no Way of a book equal to way's, from word."""
-    if not isinstance(thing, Way) or thing.word() != word or thing.book() != way.book():
+    if not is_way_from(thing, way.book(), word):
         raise BadOther(thing)
 
 
