@@ -78,6 +78,8 @@ class IdlePairsTest(unittest.TestCase):
             error = raised(struck, BESIDE, thing)
             self.assertIs(type(error), BadPair, repr(thing))
             self.assertIs(error.thing, thing)
+        for thing in [(0, True), (False, 1), (False, True), (True, 2)]:
+            self.assertIs(type(raised(struck, ROW, thing)), BadPair)
         for thing in [(0, 1), (1, 0)]:
             self.assertIs(type(raised(struck, Way(TWINS, "a", [(0, 0, "on"), (0, 1, "back")]), thing)), BadPair)
 

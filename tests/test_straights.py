@@ -122,6 +122,11 @@ class FewestTest(unittest.TestCase):
     def test_examples(self):
         self.assertEqual([fewest_carried(way) for way in (A, TURN, FIRST, IDLE)], [2, 3, 2, 0])
         self.assertEqual(fewest(bare(A)), 4)
+        told = carried(TURN, Way(RING, "a", [(0, 0, "on")]))
+        self.assertEqual(told, Way(RING, "b", [(0, 1, "on"), (0, 2, "on"), (0, 0, "on")]))
+        self.assertIs(is_straight(TURN) and is_straight(told), True)
+        beside = put_beside(TURN, no_steps(RING, "b"))
+        self.assertEqual(carried(beside, Way(RING, "ab", [(1, 1, "on")])), put_beside(TURN, no_steps(RING, "c")))
 
 
 class ErrorsTest(unittest.TestCase):

@@ -7,6 +7,7 @@ from waysback.ways import Way
 from waysback.wiring import wires
 from waysback.words import is_number, is_row
 
+
 def hung_lots(way):
     """The list that has, for each step, the lot of the steps that it hangs on.
 
@@ -46,11 +47,12 @@ def order_at(way, number):
     done = 0
     left = number
     for _ in lots:
-        for index, whole in orders.by_first(done, whole):
-            if left < whole:
+        for index, counted in orders.by_first(done, whole):
+            if left < counted:
                 break
-            left -= whole
+            left -= counted
         told.append(index)
+        whole = counted
         done = done | (1 << index)
     return told
 

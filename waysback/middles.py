@@ -4,7 +4,7 @@ from waysback.beginnings import beginnings_count
 from waysback.errors import BadThird
 from waysback.goings import put_behind, turned_back
 from waysback.stocks import two_lots
-from waysback.ways import is_way_from, need_other, need_way
+from waysback.ways import is_way_from
 
 
 def three_lots(way, other, third):
@@ -33,6 +33,4 @@ def is_between(way, other, third):
 
 def between_count(way, other):
     """How many bare pictures lie between way and other, both among them."""
-    need_way(way)
-    need_other(way, other)
     return beginnings_count(put_behind(turned_back(way), other))

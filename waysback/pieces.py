@@ -16,7 +16,7 @@ def roots_of(many, boxes):
             if other != first:
                 for one in members[other]:
                     root[one] = first
-                members[first].extend(members[other])
+                members[first].extend(list(members[other]))
         for wire in given:
             root[wire] = first
         members[first].extend(given)

@@ -1,12 +1,11 @@
 """Rounds: ways that lead from a word to it; carried along ways, and done several times."""
 
-from waysback.books import need_book
 from waysback.doing import all_back
 from waysback.errors import BadNumber
 from waysback.stocks import bare_way, stock_from
 from waysback.straights import Strip, carried_by, straight
 from waysback.ways import Way, need_other, need_round
-from waysback.words import is_integer, need_word
+from waysback.words import is_integer
 
 
 def is_round(thing):
@@ -16,8 +15,6 @@ def is_round(thing):
 
 def no_steps(book, word):
     """The way of no steps."""
-    need_book(book)
-    need_word(word)
     return Way(book, word, [])
 
 

@@ -8,8 +8,9 @@ from waysback.ways import Way, need_other, need_way
 class Stock:
     """The boxes of bare pictures of a book's ways from one word, each told by one number.
 
-    A LOT is a dict of such numbers, each with True. A wire has one number wherever it stands:
-    from 0 on the letters of the word, and on from there what the boxes of the stock give.
+    A box has a greater number than all on which it hangs. A LOT is a dict of such numbers, each
+    with True. A wire has one number wherever it stands: from 0 on the letters of the word, and on
+    from there what the boxes of the stock give.
     """
 
     def __init__(self, book, word):
@@ -81,7 +82,8 @@ class Stock:
         lot = {number: True for number in found}
         at = 0
         while at < len(found):
-            for wire in self._boxes[found[at]][2]:
+            taken = self._boxes[found[at]][2]
+            for wire in taken:
                 number = self.giver(wire)
                 if number is not None and number not in lot:
                     lot[number] = True
@@ -91,8 +93,7 @@ class Stock:
 
     def _order(self, lot):
         """The list of the pairs (place, number) by which the lot is done, leftmost first."""
-        # A box has a greater number than those on which it hangs.
-        numbers = sorted(lot)
+        numbers = list(lot)
         boxes = [self._boxes[number] for number in numbers]
         order = leftmost_order(len(self._word), boxes)
         return [(place, numbers[index]) for place, index in order]
