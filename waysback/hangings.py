@@ -33,14 +33,14 @@ def hangs(way):
 
 def orders_count(way):
     """How many orders way has."""
-    return Orders(hung_lots(way)).count()
+    return Orders(hung_lots(way)).how_many()
 
 
 def order_at(way, number):
     """The order of this number of all orders ascending."""
     lots = hung_lots(way)
     orders = Orders(lots)
-    whole = orders.count()
+    whole = orders.how_many()
     if not is_number(number) or number >= whole:
         raise BadNumber(number)
     told = []
@@ -75,7 +75,7 @@ def order_number(way, order):
     lots = hung_lots(way)
     need_order(lots, order)
     orders = Orders(lots)
-    whole = orders.count()
+    whole = orders.how_many()
     number = 0
     done = 0
     for index in order:

@@ -114,7 +114,7 @@ class Orders:
             found.extend([part for part in parts if size_of(part) > 1])
             at += 1
 
-    def count(self):
+    def how_many(self):
         """How many orders all the steps have."""
         counts = {}
         # Parts of a lot are lesser numbers.
