@@ -29,14 +29,20 @@ def word_behind(rules, word, step):
 
 def steps_on(rules, word):
     """The list of all steps that can be done on word, ascending."""
-    kinds = [(rule, turn) for rule in range(len(rules)) for turn in TURNS]
-    sources = [(rule, turn, sides(rules, (0, rule, turn))[0]) for rule, turn in kinds]
-    return [
-        (place, rule, turn)
-        for place in range(len(word))
-        for rule, turn, source in sources
-        if word.startswith(source, place)
-    ]
+    told = []
+    for rule in range(len(rules)):
+        for turn in TURNS:
+            source, _ = sides(rules, (0, rule, turn))
+            place = word.find(source)
+            while place >= 0:
+                told.append((place, rule, turn))
+                place = word.find(source, place + 1)
+    return sorted(told)
+
+
+def has_step(rules, word):
+    """Whether any step can be done on word."""
+    return any([left in word or right in word for left, right in rules])
 
 
 def gone_back(step):
