@@ -2,11 +2,21 @@
 
 import copy
 import importlib
+import random
 import unittest
 
-from tests.helpers import DOUBLES, HALVES, as_lists, as_tuples, lists_within, parameters, raised, sample_ways
+from tests.helpers import DOUBLES, HALVES, RING, as_lists, as_tuples, lists_within, parameters, raised, random_round
+from tests.helpers import sample_ways
 from waysback.books import Book
 from waysback.errors import WayError
+from waysback.goings import put_beside
+from waysback.halves import halves
+from waysback.idles import bare
+from waysback.papers import alike_paper, carrying_paper, merge_paper, middle_paper, odds_paper, parted_paper
+from waysback.papers import rings_paper, root_paper
+from waysback.rounds import carried, power
+from waysback.sessions import Session
+from waysback.sessiontexts import write_session
 from waysback.ways import Way
 
 INTERFACE = {
@@ -53,6 +63,42 @@ INTERFACE = {
     },
     "sayings": {"value": "rounds saying", "holds": "rounds saying second", "words_for": "rounds other most"},
     "straights": {"strip_pairs": "way", "is_straight": "way", "straight": "way", "fewest_carried": "way"},
+    "rings": {"ring": "way", "same_parts": "way other"},
+    "carrying": {"conjugate": "way other", "carrying_wrong": "way other thing"},
+    "roots": {"root": "way", "nth_root": "way number"},
+    "commuting": {
+        "commute": "way other", "commuting": "way", "commuting_form": "way other", "of_form": "way form",
+        "common_power": "way other",
+    },
+    "lots": {"lot": "book word most", "squares": "book word most", "cubes": "book word most"},
+    "loops": {
+        "loops": "book word most", "loop_round": "book word number most", "spelled": "way most",
+        "round_of": "book word spelling most", "square_roads": "book word most",
+    },
+    "counts": {"counts": "way most", "rank": "book word most", "round_with": "book word numbers most"},
+    "halves": {
+        "halving": "", "trees": "way", "halves": "way", "way_of_halves": "table", "map_value": "way point",
+    },
+    "movetexts": {
+        "moves_text": "way moves", "read_moves": "way text", "moves_fault": "way text", "moves_go_on": "way text",
+    },
+    "audits": {
+        "audit_alike": "book way other moves", "audit_unlike": "book way other first second",
+        "audit_merge": "book base line other way", "audit_odds": "book base line other first second",
+        "audit_middle": "book way other third inner",
+    },
+    "roundaudits": {
+        "audit_carrying": "book way other carrier moves", "audit_rings": "book way other first second",
+        "audit_root": "book way root number carrier",
+    },
+    "papers": {
+        "alike_paper": "way other", "parted_paper": "way other", "merge_paper": "base line other",
+        "odds_paper": "base line other", "middle_paper": "way other third", "carrying_paper": "way other",
+        "rings_paper": "way other", "root_paper": "way",
+    },
+    "sessiontexts": {
+        "write_session": "session", "read_session": "text", "session_fault": "text", "session_goes_on": "text",
+    },
 }
 CLASSES = {
     ("books", "Book"): ("rules", {"rules": "", "__eq__": "other"}),
@@ -60,16 +106,50 @@ CLASSES = {
         "book word steps",
         {"book": "", "word": "", "steps": "", "end": "", "words": "", "__eq__": "other"},
     ),
+    ("sessions", "Session"): (
+        "book word",
+        {
+            "book": "", "word": "", "hands": "", "line": "who", "base": "hand", "watched": "", "do": "deed",
+            "is_question": "thing", "answer": "question", "would": "deed", "count": "", "deeds": "", "undo": "",
+            "again": "", "at": "number", "copy": "", "trial": "work", "__eq__": "other",
+        },
+    ),
 }
 WAY = Way(DOUBLES, "xx", [(0, 0, "on"), (2, 0, "on"), (0, 0, "back")])
 OTHER = Way(DOUBLES, "xx", [(1, 0, "on"), (0, 0, "on"), (1, 0, "on"), (1, 0, "back")])
 EVENT = Way(DOUBLES, "xx", [(0, 0, "on"), (0, 0, "on")])
 ROUND = Way(DOUBLES, "x", [(0, 0, "on"), (0, 0, "on"), (1, 0, "back"), (0, 0, "back")])
+# A round of several parts and words, another one to which it is carried, one that commutes with it.
+TURN = Way(RING, "a", [(0, 0, "on"), (0, 1, "on"), (0, 2, "on")])
+TURNS = put_beside(put_beside(power(TURN, 2), Way(RING, "b", [])), power(TURN, 4))
+CARRIER = Way(RING, "aba", [(2, 2, "back"), (0, 0, "on")])
+AROUND = carried(TURNS, CARRIER)
+TURNED = put_beside(put_beside(power(TURN, -1), Way(RING, "b", [])), power(TURN, -2))
+HALVED = Way(HALVES, "xx", [(0, 0, "back"), (1, 0, "back"), (2, 0, "on")])
+LOT_CALLS = ["lot", "squares", "cubes", "loops", "loop_round", "round_of", "square_roads", "rank", "round_with"]
+SESSION = Session(DOUBLES, "xx")
+for deed in (("come", "ann"), ("step", "ann", (0, 0, "on")), ("hold", ("middle", "ann", "ann", "all"))):
+    SESSION.do(deed)
+SESSION_TEXT = write_session(SESSION)
+ODDS = Book([("a", "b"), ("a", "c")])
+PAPERS = {
+    "audit_alike": alike_paper(WAY, bare(WAY)), "audit_unlike": parted_paper(WAY, OTHER),
+    "audit_merge": merge_paper(WAY, EVENT, WAY),
+    "audit_odds": odds_paper(Way(ODDS, "a", []), Way(ODDS, "a", [(0, 0, "on")]), Way(ODDS, "a", [(0, 1, "on")])),
+    "audit_middle": middle_paper(WAY, OTHER, EVENT), "audit_carrying": carrying_paper(TURNS, AROUND),
+    "audit_rings": rings_paper(TURNS, TURNED), "audit_root": root_paper(TURNS),
+}
+# The texts by which each audit is asked, by its parameters.
+TEXTS = {
+    name: dict(zip({**INTERFACE["audits"], **INTERFACE["roundaudits"]}[name].split(), paper)) for name, paper in PAPERS.items()
+}
 RIGHT = {
     "thing": (0, 0, "on"), "book": DOUBLES, "word": "xx", "step": (0, 0, "on"), "way": WAY, "other": OTHER,
     "index": 0, "place": 1, "number": 1, "order": [0, 2, 1], "boxes": [(0, "on", [0], [2, 3])], "pair": (0, 1),
     "move": ("put", 1, (0, 0, "on")), "third": EVENT, "given": [EVENT, Way(DOUBLES, "xx", [(0, 0, "on")])],
-    "base": WAY, "lines": [WAY, OTHER], "rounds": [ROUND, Way(DOUBLES, "x", [])], "most": 2,
+    "base": WAY, "line": EVENT, "lines": [WAY, OTHER], "rounds": [ROUND, Way(DOUBLES, "x", [])], "most": 2,
+    "form": [3, random_round(random.Random(7), RING, "b", 3), -2], "spelling": [(0, "on"), (2, "back"), (2, "on")],
+    "numbers": [("", 0, "a", 1), ("", 1, "a", 1), ("", 2, "a", 1)], "table": halves(HALVED), "point": (1, "0110"), "session": SESSION,
     "saying": ("behind", ("back", 0), ("times", 1, 3)), "second": ("around", 0, ("none",)),
 }
 # What stands for a parameter other than RIGHT tells, by function.
@@ -87,6 +167,21 @@ SPECIAL = {
     ("read_book", "text"): "rule a to b\n", ("book_fault", "text"): "rule", ("book_goes_on", "text"): "rule",
     ("read_way", "text"): "word x\n0 0 on\n", ("way_fault", "text"): "word x\n1", ("way_goes_on", "text"): "word x\n0",
     ("read_rows", "text"): "[x] 0 on\nxx\n", ("rows_fault", "text"): "[x", ("rows_go_on", "text"): "[x",
+    **{(name, "way"): TURNS for name in ("ring", "same_parts", "conjugate", "carrying_wrong", "root", "nth_root")},
+    **{(name, "way"): TURNS for name in ("commute", "commuting", "commuting_form", "of_form", "common_power")},
+    **{(name, "way"): TURNS for name in ("carrying_paper", "rings_paper", "root_paper")},
+    **{(name, "other"): AROUND for name in ("same_parts", "conjugate", "carrying_wrong", "carrying_paper")},
+    **{(name, "other"): TURNED for name in ("commute", "commuting_form", "common_power", "rings_paper")},
+    ("carrying_wrong", "thing"): CARRIER, ("nth_root", "number"): 2,
+    **{(name, "book"): RING for name in LOT_CALLS}, **{(name, "word"): "ab" for name in LOT_CALLS},
+    **{(name, "most"): 9 for name in LOT_CALLS}, **{(name, "most"): 27 for name in ("spelled", "counts")},
+    ("spelled", "way"): TURNS, ("counts", "way"): TURNS,
+    **{(name, "way"): HALVED for name in ("trees", "halves", "map_value")},
+    ("moves_text", "moves"): [("exchange", 0), ("put", 1, (0, 0, "on"))], ("read_moves", "text"): "exchange 0\nput 1 0 0 on\n",
+    ("moves_fault", "text"): "put 1 0 0", ("moves_go_on", "text"): "put 1 0 0",
+    **{(name, one): text for name, texts in TEXTS.items() for one, text in texts.items()},
+    ("read_session", "text"): SESSION_TEXT, ("session_fault", "text"): SESSION_TEXT[:-1],
+    ("session_goes_on", "text"): SESSION_TEXT[:-1],
 }
 
 
@@ -146,8 +241,12 @@ class InterfaceTest(unittest.TestCase):
     def test_the_earlier_parameters_error_whatever_stands_for_the_later(self):
         for name, call, given in all_calls():
             named = list(given)
-            if named[0] in ("thing", "text"):
+            if not named or named[0] in ("thing", "text") or name.startswith("audit"):
                 continue
+            if named[-1] == "most" and named[:2] == ["book", "word"]:
+                # What is wrong in most goes ahead of all but the book and the word.
+                named.insert(2, named.pop())
+                given = {one: given[one] for one in named}
             wrong = {one: None for one in named}
             first = type(raised(call, **{**wrong, named[0]: 5}))
             self.assertTrue(issubclass(first, WayError), name)
@@ -161,7 +260,9 @@ class InterfaceTest(unittest.TestCase):
 
     def test_true_and_false_are_no_integers(self):
         for name, call, given in all_calls():
-            for one in {"index", "place", "number"} & set(given):
+            for one in {"index", "place", "number", "most"} & set(given):
+                if name.startswith("audit"):
+                    continue
                 for truth in (True, False):
                     self.assertIsInstance(raised(call, **{**given, one: truth}), WayError)
 

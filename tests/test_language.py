@@ -206,7 +206,9 @@ class LanguageTest(unittest.TestCase):
                 over = above[node]
                 if node.func.id in ONCE:
                     in_loop = isinstance(over, (ast.For, ast.comprehension)) and over.iter is node
-                    in_call = isinstance(over, ast.Call) and over.func.id in {"list", "tuple", "dict", "sorted", "sum"}
+                    in_call = isinstance(over, ast.Call) and over.func.id in {
+                        "list", "tuple", "dict", "sorted", "sum", "enumerate",
+                    }
                     self.assertTrue(in_loop or in_call, where)
                 if node.func.id == "set":
                     self.assertIsInstance(over, (ast.Assign, ast.Compare), where)

@@ -10,16 +10,21 @@ def book_text(book):
     return "".join([f"rule {left} to {right}\n" for left, right in book.rules()])
 
 
+def scan_sides(reading):
+    """The pair of the sides of a rule whose line stands next, behind its first blank."""
+    left = reading.some_letters()
+    reading.take([" to "])
+    right = reading.some_letters()
+    reading.take(["\n"])
+    return left, right
+
+
 def scan_book(reading):
     """The list of the rules whose lines stand next, up to the end."""
     rules = []
     while not reading.ended():
         reading.take(["rule "])
-        left = reading.some_letters()
-        reading.take([" to "])
-        right = reading.some_letters()
-        reading.take(["\n"])
-        rules.append((left, right))
+        rules.append(scan_sides(reading))
     return rules
 
 

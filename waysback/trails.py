@@ -1,6 +1,6 @@
 """Steps from a word on, as moves change them one after another."""
 
-from waysback.doing import can_do, gone_back, word_behind
+from waysback.doing import can_do, gone_back, has_step, steps_on, word_behind
 from waysback.exchanges import two_exchanged
 from waysback.words import is_number, is_row
 
@@ -17,6 +17,23 @@ class Trail:
         """The list of the steps as they are now."""
         return list(self._row)
 
+    def apart(self):
+        """The list of the indexes at which two steps can be exchanged now."""
+        many = len(self._row) - 1
+        return [index for index in range(many) if self._exchange_of(index) is not None]
+
+    def undone(self):
+        """The list of the indexes at which two steps can be struck now."""
+        return [index for index in range(len(self._row) - 1) if self._is_undone(index)]
+
+    def open_to_steps(self):
+        """The list of the indexes at which some step can be put in now."""
+        return [index for index, word in enumerate(self._along) if has_step(self._rules, word)]
+
+    def steps_at(self, index):
+        """The list of the steps that can be put in at index now, ascending."""
+        return steps_on(self._rules, self._along[index])
+
     def do(self, thing):
         """Does a move; whether any object is one that can be done now."""
         if not is_row(thing) or len(thing) not in (2, 3) or not is_number(thing[1]):
@@ -30,18 +47,26 @@ class Trail:
             return self._exchange(index)
         return kind == "strike" and self._strike(index)
 
+    def _exchange_of(self, index):
+        """The steps index and index + 1 in the other order, None if they are not apart."""
+        return two_exchanged(self._rules, self._row[index], self._row[index + 1])
+
     def _exchange(self, index):
         """Exchanges the steps index and index + 1; whether they are apart."""
-        two = two_exchanged(self._rules, self._row[index], self._row[index + 1])
+        two = self._exchange_of(index)
         if two is None:
             return False
         self._row[index:index + 2] = two
         self._along[index + 1] = word_behind(self._rules, self._along[index], two[0])
         return True
 
+    def _is_undone(self, index):
+        """Whether the step index + 1 is the step index gone back."""
+        return self._row[index + 1] == gone_back(self._row[index])
+
     def _strike(self, index):
         """Strikes the steps index and index + 1; whether the second is the first gone back."""
-        if self._row[index + 1] != gone_back(self._row[index]):
+        if not self._is_undone(index):
             return False
         del self._row[index:index + 2]
         del self._along[index + 1:index + 3]
