@@ -8,14 +8,30 @@ from waysback.straights import Strip
 from waysback.wiring import wires_and_end
 
 
+def flooded(near):
+    """The dict of each key of near with the first key with which it hangs together by near ones."""
+    labels = {}
+    for start in near:
+        found = [] if start in labels else [start]
+        at = 0
+        while at < len(found):
+            if found[at] not in labels:
+                labels[found[at]] = start
+                found.extend(near[found[at]])
+            at += 1
+    return labels
+
+
 def part_labels(core, root):
     """The list that has, letter by letter, None for a circle, else one number for all of a part."""
     _, row = wires_and_end(core)
-    labels = [root[place] for place in range(len(row))]
+    near = {letter: [root[letter]] for letter in range(len(row))}
     for place, wire in enumerate(row):
+        near[root[place]].append(place)
         # What stands here at the end is the letter of this place in the next copy.
-        old, new = labels[place], labels[root[wire]]
-        labels = [new if label == old else label for label in labels]
+        near[place].append(root[wire])
+        near[root[wire]].append(place)
+    labels = flooded(near)
     return [None if wire == place else labels[place] for place, wire in enumerate(row)]
 
 
